@@ -1,0 +1,1 @@
+"""Onwardlines: lines whose headways divide one another."""
