@@ -25,3 +25,8 @@ def written(number):
         blocks.append(str(block).zfill(BLOCK_DIGITS))
     blocks.append(str(number))
     return "".join(blocks[::-1])
+
+
+def is_below(thing, bound):
+    """Return whether an object is an integer from 0 to a bound less 1."""
+    return is_integer(thing) and 0 <= thing < bound

@@ -8,6 +8,18 @@ from onwardlines.lines import Line, Stop, Walk
 from onwardlines.routes import Route
 
 FAR = 100000
+SMALL_ROUTES = (
+    [Walk(7)],
+    [Stop(12, 5)],
+    [Line(12, 5, 20)],
+    [Walk(3), Line(4, 1, 6)],
+    [Line(4, 1, 6), Walk(3)],
+    [Line(4, 1, 6), Line(12, 11, 0)],
+    [Line(12, 11, 0), Line(4, 1, 6)],
+    [Stop(6, 5), Stop(6, 4)],
+    [Line(2, 1, 3), Line(12, 4, 5), Stop(4, 3), Walk(9), Line(12, 0, 1)],
+    [Line(24, 23, 30), Stop(2, 0), Line(8, 7, 7), Walk(1), Line(24, 3, 2), Stop(4, 1)],
+)
 
 
 def departs(every, at, minute):
@@ -74,3 +86,61 @@ def any_objects():
     """Objects of all kinds, integers and lines among them."""
     return odd_objects() + [0, 1, -1, 7, 10 ** 60 - 1, 1 - 10 ** 60,
                             Line(15, 3, 7), Walk(5), Stop(15, 3)]
+
+
+def sixty_legs():
+    """Sixty legs of all kinds with headways that fit."""
+    legs = []
+    for k in range(20):
+        every = (1, 2, 4, 12, 24)[k % 5]
+        legs.extend([Line(every, k % every, 5 * k), Walk(k), Stop(24, k)])
+    return legs
+
+
+def great_legs():
+    """Legs with numbers of up to 60 digits."""
+    small, middle = 10 ** 20 + 1, (10 ** 20 + 1) * 10 ** 19
+    great = middle * 10 ** 20
+    return [Line(middle, small * 3 + 1, 10 ** 60 - 1), Walk(10 ** 59), Line(great, great - 5, 3),
+            Stop(small, small - 1), Line(great, middle + 2, 10 ** 58), Line(small, 0, 0)]
+
+
+def numbers_of(route):
+    """The numbers of all legs of a route."""
+    return [numbers(leg) for leg in route.legs]
+
+
+def waits_of(lines, start):
+    """The waits ahead of all legs for a start, and the arrivals of all legs."""
+    waits, arrivals = [], []
+    for every, at, ride in lines:
+        leave = departure(every, at, start)
+        waits.append(leave - start)
+        start = leave + ride
+        arrivals.append(start)
+    return waits, arrivals
+
+
+def slack_of(lines, arrival_there, index):
+    """By how much a leg can arrive later, minute by minute, with the same end of the route."""
+    rest = lines[index + 1:]
+    if not rest:
+        return 0
+    minutes = 0
+    while arrival_of_all(rest, arrival_there + minutes + 1) == arrival_of_all(rest, arrival_there):
+        minutes += 1
+    return minutes
+
+
+def many_times(line, factor):
+    """The line in which everything lasts a number of times as long."""
+    return Line(line.every * factor, line.at * factor, line.ride * factor)
+
+
+def raised(wrong):
+    """The class of the error that a call raises."""
+    try:
+        wrong()
+    except Exception as error:
+        return type(error)
+    return None

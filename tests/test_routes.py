@@ -4,45 +4,12 @@ import inspect
 import unittest
 
 import by_hand
+from by_hand import SMALL_ROUTES, great_legs, numbers_of, sixty_legs
 from onwardlines.errors import InvalidIndex, InvalidRoute
 from onwardlines.lines import Line, Stop, Walk
 from onwardlines.routes import Route
 
-SMALL_ROUTES = (
-    [Walk(7)],
-    [Stop(12, 5)],
-    [Line(12, 5, 20)],
-    [Walk(3), Line(4, 1, 6)],
-    [Line(4, 1, 6), Walk(3)],
-    [Line(4, 1, 6), Line(12, 11, 0)],
-    [Line(12, 11, 0), Line(4, 1, 6)],
-    [Stop(6, 5), Stop(6, 4)],
-    [Line(2, 1, 3), Line(12, 4, 5), Stop(4, 3), Walk(9), Line(12, 0, 1)],
-    [Line(24, 23, 30), Stop(2, 0), Line(8, 7, 7), Walk(1), Line(24, 3, 2), Stop(4, 1)],
-)
 ODD_INDICES = (True, False, "1", "", None, [], [0], (), (0,), {}, Walk(1), Route(Walk(1)))
-
-
-def sixty_legs():
-    """Sixty legs of all kinds with headways that fit."""
-    legs = []
-    for k in range(20):
-        every = (1, 2, 4, 12, 24)[k % 5]
-        legs.extend([Line(every, k % every, 5 * k), Walk(k), Stop(24, k)])
-    return legs
-
-
-def great_legs():
-    """Legs with numbers of up to 60 digits."""
-    small, middle = 10 ** 20 + 1, (10 ** 20 + 1) * 10 ** 19
-    great = middle * 10 ** 20
-    return [Line(middle, small * 3 + 1, 10 ** 60 - 1), Walk(10 ** 59), Line(great, great - 5, 3),
-            Stop(small, small - 1), Line(great, middle + 2, 10 ** 58), Line(small, 0, 0)]
-
-
-def numbers_of(route):
-    """The numbers of all legs of a route."""
-    return [by_hand.numbers(leg) for leg in route.legs]
 
 
 class Making(unittest.TestCase):
